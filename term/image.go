@@ -2,18 +2,17 @@ package term
 
 import (
 	"math/bits"
+	"slices"
 
 	"umlaut/api"
 	"umlaut/part"
+	"umlaut/shape"
 	"umlaut/span"
 )
 
-// fewPairs is how many pairs of spans are added one by one and sorted; more of them are counted number by number.
-const fewPairs = 1 << 14
-
 // Image is the values of all windows.
 func Image(t api.Term, guards [][]api.Span) ([]api.Span, bool) {
-	if len(guards) > api.MaxWindow || !numbersRight(t) || !partsRight(t, len(guards)) {
+	if len(guards) > api.MaxWindow || !shape.Numbers(t) || !shape.Parts(t, len(guards)) {
 		return nil, false
 	}
 	if empty(guards) {
@@ -23,7 +22,7 @@ func Image(t api.Term, guards [][]api.Span) ([]api.Span, bool) {
 	if !ok {
 		return nil, false
 	}
-	return span.Move(part.Image(outer(t), inner), t.Base), true
+	return span.Move(part.Image(shape.Outer(t), inner), t.Base), true
 }
 
 // empty tells whether no window is the guards'.
@@ -38,11 +37,11 @@ func empty(guards [][]api.Span) bool {
 
 // inners is the inner values of all windows of guards, of which none is empty; none, if one isn't a symbol.
 func inners(t api.Term, guards [][]api.Span) ([]api.Span, bool) {
-	at := places(t.Parts)
+	at := shape.Places(t.Parts)
 	var each [][]api.Span
 	least, greatest := t.Sum, t.Sum
 	for i, g := range guards {
-		if !span.Within(g, symbols()) {
+		if !span.Within(g, shape.Symbols()) {
 			return nil, false
 		}
 		own := joint(at[i], g)
@@ -56,19 +55,11 @@ func inners(t api.Term, guards [][]api.Span) ([]api.Span, bool) {
 		return nil, false
 	}
 	sum := []api.Span{{}}
-	for _, s := range each {
-		sum = sums(sum, s)
+	// The small values first: so they fill the gaps between the great ones, and the lists stay short.
+	for _, at := range slices.Backward(shape.Order(t.Parts)) {
+		sum = shape.Sums(sum, each[at])
 	}
 	return span.Move(sum, t.Sum), true
-}
-
-// places is the parts of each place.
-func places(parts []api.Part) map[int][]api.Part {
-	at := map[int][]api.Part{}
-	for _, p := range parts {
-		at[p.At] = append(at[p.At], p)
-	}
-	return at
 }
 
 // joint is what the parts of one place come to together, of the symbols of a set.
@@ -83,9 +74,9 @@ func joint(parts []api.Part, s []api.Span) []api.Span {
 		for x := r.Lo; x <= r.Hi; {
 			n := free(x, r.Hi)
 			for k := len(low) - 1; k < n; k++ {
-				low = append(low, span.Union(low[k], span.Move(low[k], total(parts, 1<<k))))
+				low = append(low, span.Union(low[k], span.Move(low[k], shape.Total(parts, 1<<k))))
 			}
-			out = append(out, span.Move(low[n], total(parts, x))...)
+			out = append(out, span.Move(low[n], shape.Total(parts, x))...)
 			x += 1 << n
 		}
 	}
@@ -95,52 +86,4 @@ func joint(parts []api.Part, s []api.Span) []api.Span {
 // free is how many low bits of x, all 0, can be anything below a greatest number.
 func free(x, most int) int {
 	return min(bits.TrailingZeros(uint(x)), bits.Len(uint(most-x+1))-1)
-}
-
-// total is what parts come to together, of one symbol.
-func total(parts []api.Part, x int) int {
-	n := 0
-	for _, p := range parts {
-		v, _ := part.Value(p, x)
-		n += v
-	}
-	return n
-}
-
-// sums is all sums of a number of one set and one of another, none below 0.
-func sums(a, b []api.Span) []api.Span {
-	if len(a)*len(b) > fewPairs {
-		return counted(a, b)
-	}
-	var out []api.Span
-	for _, x := range a {
-		for _, y := range b {
-			out = append(out, api.Span{Lo: x.Lo + y.Lo, Hi: x.Hi + y.Hi})
-		}
-	}
-	return span.Norm(out)
-}
-
-// counted is the same sums, told by how many pairs of spans have each number: room for all numbers is less than room for so many pairs.
-func counted(a, b []api.Span) []api.Span {
-	top := a[len(a)-1].Hi + b[len(b)-1].Hi
-	change := make([]int, top+2)
-	for _, x := range a {
-		for _, y := range b {
-			change[x.Lo+y.Lo]++
-			change[x.Hi+y.Hi+1]--
-		}
-	}
-	var out []api.Span
-	pairs := 0
-	for x, c := range change {
-		if pairs == 0 && c > 0 {
-			out = append(out, api.Span{Lo: x, Hi: x})
-		}
-		pairs += c
-		if pairs > 0 {
-			out[len(out)-1].Hi = x
-		}
-	}
-	return out
 }

@@ -3,6 +3,7 @@ package term
 import (
 	"umlaut/api"
 	"umlaut/part"
+	"umlaut/shape"
 	"umlaut/span"
 )
 
@@ -47,11 +48,11 @@ func Equal(a, b api.Term, s []api.Span) []api.Span {
 // asked is the symbols of a set of which terms may have values.
 func asked(s []api.Span, terms ...api.Term) []api.Span {
 	for _, t := range terms {
-		if !partsRight(t, 1) || !part.Right(outer(t), 1) {
+		if !shape.Parts(t, 1) || !part.Right(shape.Outer(t), 1) {
 			return nil
 		}
 	}
-	return span.Meet(s, symbols())
+	return span.Meet(s, shape.Symbols())
 }
 
 // along is how a term goes on from a symbol.
@@ -67,7 +68,7 @@ func along(t api.Term, x int) stretch {
 	if !ok {
 		return stretch{last: x + lasts(f.last-x, f.grow, inner, -1)}
 	}
-	last, grow := alike(outer(t), inner)
+	last, grow := alike(shape.Outer(t), inner)
 	return stretch{
 		last:  x + lasts(f.last-x, f.grow, inner, min(last, api.MaxRune)),
 		has:   true,
