@@ -5,6 +5,7 @@ import (
 	"cmp"
 	"iter"
 	"slices"
+	"sort"
 
 	"umlaut/api"
 )
@@ -24,7 +25,7 @@ func Check(s []api.Span) bool {
 
 // Norm is the plain list of a set.
 func Norm(l []api.Span) []api.Span {
-	var own []api.Span
+	own := slices.Grow([]api.Span(nil), len(l))
 	for _, x := range l {
 		own = put(own, x.Lo, x.Hi)
 	}
@@ -141,7 +142,13 @@ func Union(a, b []api.Span) []api.Span {
 // Meet is what is in both.
 func Meet(a, b []api.Span) []api.Span {
 	p, q := plain(a), plain(b)
-	var out []api.Span
+	if len(p) == 1 {
+		p, q = q, p
+	}
+	if len(q) == 1 {
+		return clip(p, q[0])
+	}
+	out := slices.Grow([]api.Span(nil), min(len(p), len(q)))
 	for i, j := 0, 0; i < len(p) && j < len(q); {
 		out = put(out, max(p[i].Lo, q[j].Lo), min(p[i].Hi, q[j].Hi))
 		if p[i].Hi < q[j].Hi {
@@ -150,6 +157,19 @@ func Meet(a, b []api.Span) []api.Span {
 			j++
 		}
 	}
+	return out
+}
+
+// clip is what a plain list has of a span: most lists are held against one span, and have nothing else.
+func clip(p []api.Span, r api.Span) []api.Span {
+	from := sort.Search(len(p), func(i int) bool { return p[i].Hi >= r.Lo })
+	to := sort.Search(len(p), func(i int) bool { return p[i].Lo > r.Hi })
+	if from >= to {
+		return nil
+	}
+	out := slices.Clone(p[from:to])
+	out[0].Lo = max(out[0].Lo, r.Lo)
+	out[len(out)-1].Hi = min(out[len(out)-1].Hi, r.Hi)
 	return out
 }
 
@@ -195,8 +215,9 @@ func Move(s []api.Span, by int) []api.Span {
 	if by < -2*api.MaxNum || by > 2*api.MaxNum {
 		return nil
 	}
-	var out []api.Span
-	for _, r := range plain(s) {
+	p := plain(s)
+	out := slices.Grow([]api.Span(nil), len(p))
+	for _, r := range p {
 		out = put(out, r.Lo+by, r.Hi+by)
 	}
 	return out

@@ -62,9 +62,12 @@ func inners(t api.Term, guards [][]api.Span) ([]api.Span, bool) {
 	return span.Move(sum, t.Sum), true
 }
 
-// joint is what the parts of one place come to together, of the symbols of a set.
+// joint is what the parts of one place come to together, of the symbols of a set that isn't empty.
 func joint(parts []api.Part, s []api.Span) []api.Span {
-	if len(parts) == 1 {
+	switch len(parts) {
+	case 0:
+		return []api.Span{{}}
+	case 1:
 		return part.Image(parts[0], s)
 	}
 	// Parts come to the sum of what they come to of each bit: so whatever the bits above are, those below add the same.
