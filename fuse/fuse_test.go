@@ -498,6 +498,29 @@ func TestPromised(t *testing.T) {
 	}
 }
 
+// P15.2: the greatest of these write, at an end that is a part, as much as a final may.
+func TestPromisedGreatest(t *testing.T) {
+	much := strings.Repeat("𝄞", 8)
+	b := scalars(1, []api.Rule{{Guards: window(word.Domain(api.Scalars)), Eat: 1, Out: consts(much)}}, ends(0, much))
+	got, _ := wantFuse(t, codec.Repairer(), b, codec.Encoder(), raws("", "a", "\xe2\x82", "\xf0", "\xf0\x9f\x98x"))
+	if desc.Longest(got) != api.MaxOut {
+		t.Errorf("%d terms at most", desc.Longest(got))
+	}
+	// Of each second symbol of each kind something else is written.
+	b.Rules = nil
+	for i := range 8 {
+		var g []api.Span
+		for j := range 4 {
+			lo := []int{0x1001, 0x20001, 0x50003, 0x81005}[j] + 0x1085*i
+			g = append(g, api.Span{Lo: lo, Hi: lo + 0x1041})
+		}
+		b.Rules = append(b.Rules, api.Rule{Guards: window(g), Eat: 1, Out: append(consts(much[:4*7]), term.Const(rune('a'+i)))})
+	}
+	for _, a := range []api.Desc{codec.Strict(), codec.Repairer()} {
+		wantFuse(t, a, b, codec.Encoder(), raws("", "a", "ሴ", "𠀁", "\xe1\x80\x81", "\xe1\x80\x80", "\xf0\xa0\x80\x81\xe2\x82"))
+	}
+}
+
 // roomy is a list with room behind it, in which something stands.
 func roomy[T any](l []T, behind T) []T {
 	return append(l[:len(l):len(l)], behind, behind)[:len(l)]
