@@ -7,13 +7,14 @@ import (
 	"umlaut/desc"
 	"umlaut/minterm"
 	"umlaut/part"
+	"umlaut/place"
 	"umlaut/span"
 	"umlaut/word"
 )
 
 // blocksOf is the blocks of a well-formed description without epsilon rules.
 func blocksOf(d api.Desc) ([][]api.Span, api.Errno) {
-	blocks, e := minterm.Split(word.Domain(d.In), guardsOf(d))
+	blocks, e := minterm.Split(word.Domain(d.In), place.Guards(d))
 	if e != api.OK {
 		return nil, e
 	}
@@ -31,18 +32,6 @@ func blocksOf(d api.Desc) ([][]api.Span, api.Errno) {
 		}
 	}
 	return blocks, api.OK
-}
-
-// guardsOf is all guards of a description.
-func guardsOf(d api.Desc) [][]api.Span {
-	var out [][]api.Span
-	for _, r := range d.Rules {
-		out = append(out, r.Guards...)
-	}
-	for _, f := range d.Finals {
-		out = append(out, f.Guards...)
-	}
-	return out
 }
 
 // width is how many bits a sort's symbols have.
