@@ -1,4 +1,4 @@
-// Package fresh puts what rules and finals hold into memory of its own.
+// Package fresh puts what rules and finals hold, and tables, into memory of its own.
 package fresh
 
 import (
@@ -23,4 +23,19 @@ func Terms(lists ...[]api.Term) []api.Term {
 		out[i].Parts = slices.Clone(t.Parts)
 	}
 	return out
+}
+
+// Table is a table in new memory.
+func Table(t api.Table) api.Table {
+	t.Nodes, t.Acts, t.Ends = slices.Clone(t.Nodes), slices.Clone(t.Acts), slices.Clone(t.Ends)
+	for i, n := range t.Nodes {
+		t.Nodes[i].Next = slices.Clone(n.Next)
+	}
+	for i, a := range t.Acts {
+		t.Acts[i].Out = Terms(a.Out)
+	}
+	for i, out := range t.Ends {
+		t.Ends[i] = Terms(out)
+	}
+	return t
 }

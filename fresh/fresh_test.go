@@ -2,6 +2,7 @@ package fresh_test
 
 import (
 	"fmt"
+	"slices"
 	"testing"
 
 	"umlaut/api"
@@ -73,5 +74,67 @@ func TestTerms(t *testing.T) {
 	}
 	if l := fresh.Terms(nil, nil); len(l) != 0 {
 		t.Errorf("Terms of none: %v", l)
+	}
+}
+
+// table is a table, with room behind each of the lists.
+func table() api.Table {
+	x := api.Table{
+		Nodes: []api.Node{{Next: []int{-1, -2, 66}, End: 1}, {Held: 2, Next: []int{5, 66}}, {Held: 66}},
+		Acts:  []api.Act{{Eat: 1, To: 1, Out: terms()}, {Eat: 2}, {Eat: 66}},
+		Ends:  [][]api.Term{terms(), nil, terms(), {{Sum: 66}}},
+	}
+	x.Class['a'] = 1
+	x.Nodes[0].Next, x.Nodes[1].Next = x.Nodes[0].Next[:2], x.Nodes[1].Next[:1]
+	x.Nodes, x.Acts, x.Ends = x.Nodes[:2], x.Acts[:2], x.Ends[:3]
+	return x
+}
+
+// tableText is a table as a text, with what lies in its lists' room.
+func tableText(x api.Table) string {
+	out := fmt.Sprint(x.Nodes[:cap(x.Nodes)], x.Acts[:cap(x.Acts)], x.Ends[:cap(x.Ends)], x.Class)
+	for _, n := range x.Nodes {
+		out += fmt.Sprint(n.Next[:cap(n.Next)])
+	}
+	for _, a := range x.Acts {
+		out += text(nil, a.Out)
+	}
+	for _, l := range x.Ends {
+		out += text(nil, l)
+	}
+	return out
+}
+
+func TestTable(t *testing.T) {
+	x := table()
+	got := fresh.Table(x)
+	if fmt.Sprint(got) != fmt.Sprint(x) {
+		t.Errorf("Table: %v", got)
+	}
+	lists := slices.Clone(got.Ends)
+	for i := range got.Acts {
+		lists = append(lists, got.Acts[i].Out)
+		got.Acts[i] = api.Act{Eat: -7}
+	}
+	for _, l := range lists {
+		_ = append(l, api.Term{Sum: -7})
+		for j := range l {
+			_ = append(l[j].Parts, api.Part{At: -7})
+			clear(l[j].Parts)
+		}
+		clear(l)
+	}
+	for i := range got.Nodes {
+		_ = append(got.Nodes[i].Next, -7)
+		clear(got.Nodes[i].Next)
+		got.Nodes[i] = api.Node{Held: -7}
+	}
+	clear(got.Ends)
+	_, _, _ = append(got.Nodes, api.Node{Held: -7}), append(got.Acts, api.Act{Eat: -7}), append(got.Ends, terms())
+	if tableText(x) != tableText(table()) {
+		t.Errorf("Table shares memory: %v", x)
+	}
+	if none := fresh.Table(api.Table{}); len(none.Nodes)+len(none.Acts)+len(none.Ends) != 0 {
+		t.Errorf("Table of the zero table: %v", none)
 	}
 }
