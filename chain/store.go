@@ -3,6 +3,7 @@ package chain
 import (
 	"umlaut/api"
 	"umlaut/fresh"
+	"umlaut/shape"
 )
 
 const (
@@ -13,16 +14,9 @@ const (
 
 // store keeps terms, and lists of them, each once, by numbers.
 type store struct {
-	terms  []api.Term
+	terms  *shape.Book
 	lists  []list
-	termOf map[form]int
 	listOf map[list]int
-}
-
-// form is what a term is made of.
-type form struct {
-	base, drop, take, up, sum, n int
-	parts                        [api.MaxParts]api.Part
 }
 
 // list is a list's last term, and what stands ahead of it.
@@ -30,22 +24,14 @@ type list struct{ ahead, last, size int }
 
 // newStore is a store that has the list without terms.
 func newStore() *store {
-	return &store{lists: []list{{ahead: noNumber, last: noNumber}}, termOf: map[form]int{}, listOf: map[list]int{}}
+	return &store{terms: shape.NewBook(), lists: []list{{ahead: noNumber, last: noNumber}}, listOf: map[list]int{}}
 }
 
 // numbers is the numbers of terms.
 func (s *store) numbers(l []api.Term) []int {
 	var out []int
 	for _, t := range l {
-		f := form{base: t.Base, drop: t.Drop, take: t.Take, up: t.Up, sum: t.Sum, n: len(t.Parts)}
-		copy(f.parts[:], t.Parts)
-		i, ok := s.termOf[f]
-		if !ok {
-			i = len(s.terms)
-			s.terms = append(s.terms, t)
-			s.termOf[f] = i
-		}
-		out = append(out, i)
+		out = append(out, s.terms.Put(t))
 	}
 	return out
 }
@@ -72,7 +58,7 @@ func (s *store) put(l int, terms []int) int {
 func (s *store) tell(l int) []api.Term {
 	out := make([]api.Term, s.lists[l].size)
 	for i := len(out) - 1; i >= 0; i-- {
-		out[i] = s.terms[s.lists[l].last]
+		out[i] = s.terms.Terms[s.lists[l].last]
 		l = s.lists[l].ahead
 	}
 	return fresh.Terms(out)

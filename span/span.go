@@ -206,7 +206,18 @@ func Within(a, b []api.Span) bool {
 
 // Meets tells whether two sets have something in common.
 func Meets(a, b []api.Span) bool {
-	return len(Meet(a, b)) > 0
+	p, q := plain(a), plain(b)
+	for len(p) > 0 && len(q) > 0 {
+		switch {
+		case p[0].Hi < q[0].Lo:
+			p = p[1:]
+		case q[0].Hi < p[0].Lo:
+			q = q[1:]
+		default:
+			return true
+		}
+	}
+	return false
 }
 
 // Move is a set, moved.
