@@ -4,6 +4,7 @@ import (
 	"strings"
 
 	"umlaut/api"
+	"umlaut/hex"
 	"umlaut/span"
 	"umlaut/word"
 )
@@ -266,7 +267,7 @@ func (r *reader) numbered() rune {
 	first := r.at
 	x := rune(0)
 	for r.at < first+hexDigits {
-		value, ok := hex(r.next())
+		value, ok := hex.Value(r.next())
 		if !ok {
 			break
 		}
@@ -278,17 +279,4 @@ func (r *reader) numbered() rune {
 	}
 	r.must('}')
 	return x
-}
-
-// hex is a hex digit's value.
-func hex(x rune) (rune, bool) {
-	switch {
-	case digit(x):
-		return x - '0', true
-	case 'a' <= x && x <= 'f':
-		return x - 'a' + 10, true
-	case 'A' <= x && x <= 'F':
-		return x - 'A' + 10, true
-	}
-	return 0, false
 }
